@@ -1,0 +1,1 @@
+"""Hingedraw: rods with hinges, and the curves that they draw, exactly."""
