@@ -101,15 +101,9 @@ def sign_of(number):
 
 
 def root_sign(one):
-    part_sign = sign_of(one[0][0])
-    under_sign = sign_of(one[1][0])
-    if part_sign == 0 or part_sign == under_sign:
-        return under_sign
-    if under_sign == 0:
-        return part_sign
-    # They pull apart, and their squares tell which is the greater; they are never alike.
+    # The greater of part and root gives the sign; their squares tell which it is, alike where both are 0 alone.
     apart = minus(times(one[0], one[0]), without_sign(one[1]))
-    return part_sign if apart[0] > 0 else under_sign
+    return sign_of(one[0][0]) if apart[0] > 0 else sign_of(one[1][0])
 
 
 def root_less(one, other):
