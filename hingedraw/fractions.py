@@ -3,6 +3,7 @@
 from hingedraw.errors import NoQuotient
 
 NOUGHT = (0, 1)
+ONE = (1, 1)
 
 
 def is_whole(thing):
@@ -16,6 +17,10 @@ def is_fraction(thing):
     if not is_whole(thing[0]) or not is_whole(thing[1]):
         return False
     return thing[1] >= 1 and common_divisor(thing[0], thing[1]) == 1
+
+
+def is_above_nought(thing):
+    return is_fraction(thing) and thing[0] > 0
 
 
 def common_divisor(one, other):

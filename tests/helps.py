@@ -1,7 +1,26 @@
 """What several tests need: numbers made another way than the program makes them."""
 
+import unittest
 from fractions import Fraction
 from math import gcd, isqrt
+
+from hingedraw.errors import RodError
+
+STRANGE = (
+    -1, 0, 1, 2, 7, 9, 10 ** 60, True, False, None, "", "a", "01", "fix", [], (), {}, (0, 1), (1, 1), (2, 2), (-1, 2),
+    (1, 0),
+    (1, -1), (True, 1), (1, True), (0, 1, 2), (0,), [0, 1], {0: 1}, ((0, 1), (0, 1)), ((0, 1, (1, 1)),),
+    ("fix", (0, 1), (0, 1)),
+)
+
+
+class RefusalCase(unittest.TestCase):
+
+    def assert_refused(self, error, asked, *given):
+        with self.assertRaises(RodError) as caught:
+            asked(*given)
+        self.assertIs(type(caught.exception), error)
+        return caught.exception
 
 
 def pair(value):
@@ -52,3 +71,97 @@ def great_fraction(chance):
 
 def small_fraction(chance):
     return Fraction(chance.randint(-12, 12), chance.randint(1, 9))
+
+
+def plain(x, y):
+    """The plain point of two Fractions."""
+    return (number(x), number(y))
+
+
+def rooted(x, y, base=2):
+    """The point of two (part, portion), how many times the root of base goes with part."""
+    return (number(x[0], x[1], base), number(y[0], y[1], base))
+
+
+def nested(deep, within):
+    for turn in range(deep):
+        within = ([within], (within,), {"in": within}, (within, within))[turn % 4]
+    return within
+
+
+def anything(chance, deep):
+    kind = chance.randrange(9 if deep else 4)
+    if kind == 0:
+        return chance.choice((-1, 0, 1, 2, 3, 4, 9, -4, 10 ** 60, -(10 ** 60)))
+    if kind == 1:
+        return chance.choice((True, False, None))
+    if kind == 2:
+        return chance.choice(("", "a", "01", "ab", "(1, 2)"))
+    if kind == 3:
+        return pair(small_fraction(chance))
+    many = chance.choice((0, 1, 2, 2, 2, 2, 3))
+    if kind == 4:
+        return [anything(chance, deep - 1) for turn in range(many)]
+    if kind == 5:
+        return {chance.choice((0, 1, "x", (1, 2), None, True)): anything(chance, deep - 1) for turn in range(many)}
+    return tuple(anything(chance, deep - 1) for turn in range(many))
+
+
+def variants(thing):
+    """The thing with one place of it changed: another value there, a part fewer or more, a list or a dict."""
+    yield from STRANGE
+    if type(thing) is int:
+        yield from (thing - 1, thing + 1, -thing)
+    if type(thing) is tuple:
+        yield list(thing)
+        yield dict(enumerate(thing))
+        yield thing + (0,)
+        yield tuple(reversed(thing))
+        for at, part in enumerate(thing):
+            yield thing[:at] + thing[at + 1:]
+            yield thing[:at] + (part,) + thing[at:]
+            for other in variants(part):
+                yield thing[:at] + (other,) + thing[at + 1:]
+
+
+def rank(rows):
+    """How many of the rows of Fractions are independent."""
+    rows = [[Fraction(cell) for cell in row] for row in rows]
+    many = 0
+    for column in range(len(rows[0]) if rows else 0):
+        lead = next((row for row in rows[many:] if row[column] != 0), None)
+        if lead is not None:
+            rows.remove(lead)
+            rows = [[cell - row[column] / lead[column] * above for cell, above in zip(row, lead)] if at >= many else row
+                    for at, row in enumerate(rows)]
+            rows.insert(many, lead)
+            many += 1
+    return many
+
+
+def worth(fraction):
+    return Fraction(fraction[0], fraction[1])
+
+
+def spot(point):
+    """The two Fractions of a plain point."""
+    for coordinate in point:
+        assert coordinate[1] == (0, 1)
+    return (worth(point[0][0]), worth(point[1][0]))
+
+
+def some_linkage(chance, most=12):
+    many = chance.randint(1, 8)
+    fixed = tuple(sorted(chance.sample(range(many), chance.randint(0, min(many, 3)))))
+    joints = [(one, other) for one in range(many) for other in range(one + 1, many)]
+    chosen = chance.sample(joints, chance.randint(0, min(len(joints), most)))
+    return (many, fixed, tuple((one, other, (chance.randint(1, 9), 1)) for one, other in chosen))
+
+
+def some_place(chance, many, reach=4):
+    """Whole coordinates, so that joints often lie on one point or in one line."""
+    return tuple(plain(chance.randint(-reach, reach), chance.randint(-reach, reach)) for turn in range(many))
+
+
+def great_place(chance, many):
+    return tuple(plain(great_fraction(chance), great_fraction(chance)) for turn in range(many))

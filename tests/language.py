@@ -139,11 +139,25 @@ def name_faults(node):
             yield f"L8 or L17 the name {node.attr}"
 
 
+def shadow_faults(tree):
+    taken = [part.name for part in tree.body if isinstance(part, ast.ClassDef)]
+    for part in tree.body:
+        if isinstance(part, ast.ImportFrom):
+            taken.extend(name.asname or name.name for name in part.names)
+    for outer in ast.walk(tree):
+        if isinstance(outer, (ast.FunctionDef, ast.Lambda)):
+            for node in ast.walk(outer):
+                for name in bound_names(node):
+                    if name in taken:
+                        yield node.lineno, f"L15 {name} is a class or an import of the file"
+
+
 def faults(text):
     """A list of (line, words), one for each place that is outside the rules."""
     found = list(text_faults(text))
     tree = ast.parse(text)
     found.extend(top_faults(tree))
+    found.extend(shadow_faults(tree))
     for node in ast.walk(tree):
         line = getattr(node, "lineno", 0)
         if not isinstance(node, STATEMENTS + EXPRESSIONS):

@@ -6,23 +6,21 @@ import unittest
 from fractions import Fraction
 from math import isqrt
 
-from helps import great_fraction, looks_like_fraction, pair, sixty_figures, small_fraction
-from hingedraw.errors import NoQuotient, RodError
+from helps import RefusalCase, great_fraction, looks_like_fraction, pair, sixty_figures, small_fraction
+from hingedraw.errors import NoQuotient
 from hingedraw.fractions import minus, over, plus, ratio, root_in, times, whole_root
 
 RECKONED = ((plus, operator.add), (minus, operator.sub), (times, operator.mul), (over, operator.truediv))
 
 
-class FractionCase(unittest.TestCase):
+class FractionCase(RefusalCase):
 
     def assert_fraction(self, told, value):
         self.assertTrue(looks_like_fraction(told), told)
         self.assertEqual(told, pair(value))
 
     def assert_no_quotient(self, asked, *given):
-        with self.assertRaises(RodError) as caught:
-            asked(*given)
-        self.assertIs(type(caught.exception), NoQuotient)
+        self.assert_refused(NoQuotient, asked, *given)
 
 
 class RatioTest(FractionCase):
@@ -115,7 +113,8 @@ class WholeRootTest(unittest.TestCase):
         self.assertEqual(whole_root(0), 0)
 
     def test_squares_and_their_neighbours(self):
-        for root in (2, 3, 4, 10, 255, 256, 257, 2 ** 26 + 1, 2 ** 32, 2 ** 53 + 1, 10 ** 30 - 1, 10 ** 30, 10 ** 60 - 1):
+        for root in (2, 3, 4, 10, 255, 256, 257, 2 ** 26 + 1, 2 ** 32, 2 ** 53 + 1, 10 ** 30 - 1, 10 ** 30,
+                     10 ** 60 - 1):
             self.assertEqual(whole_root(root * root - 1), root - 1)
             self.assertEqual(whole_root(root * root), root)
             self.assertEqual(whole_root(root * root + 1), root)
@@ -139,7 +138,8 @@ class RootInTest(unittest.TestCase):
     def test_written_out(self):
         for one, told in (
             ((0, 1), (0, 1)), ((1, 1), (1, 1)), ((4, 1), (2, 1)), ((1, 4), (1, 2)), ((9, 16), (3, 4)),
-            ((2, 1), None), ((1, 2), None), ((4, 3), None), ((3, 4), None), ((2, 3), None), ((8, 1), None), ((1, 8), None),
+            ((2, 1), None), ((1, 2), None), ((4, 3), None), ((3, 4), None), ((2, 3), None), ((8, 1), None),
+            ((1, 8), None),
         ):
             self.assertEqual(root_in(one), told)
 

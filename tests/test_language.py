@@ -17,6 +17,8 @@ SENT_BACK = (
     "def f(x):\n    with x:\n        pass\n", "class A:\n    x = 1\n", "x = 1\nx = 2\n", "def f(_x):\n    return 1\n",
     "x = 1\nif x:\n    y = 2\n", "def f(x):\n" + "    x = x + 1\n" * 40, "# " + "x" * 120 + "\n", "# \u00e4\n", "# the type\n",
     "def f(x):\n    try:\n        return x[0]\n    except Exception:\n        return 1\n",
+    "from hingedraw.errors import NoRoot\n\n\ndef f(NoRoot):\n    return NoRoot\n",
+    "from hingedraw.roots import made\n\n\ndef f(x):\n    made = x\n    return made\n",
     "def f(x):\n    return [a for a in x for b in a]\n", "def f(x):\n    return x._hidden\n", "@f\ndef g():\n    pass\n",
 )
 
@@ -50,6 +52,17 @@ class LanguageTest(unittest.TestCase):
                     made += [part.targets[0].id for part in tree.body if isinstance(part, ast.Assign)]
                     for name in node.names:
                         self.assertIn(name.name, made, path.name)
+
+    def test_no_two_files_draw_from_one_another(self):
+        drawn = {}
+        for path in sorted(FOLDER.rglob("*.py")):
+            tree = ast.parse(path.read_text(encoding="utf-8"))
+            drawn[PACKAGE + "." + path.stem] = {node.module for node in tree.body if isinstance(node, ast.ImportFrom)}
+        # Files that draw from nothing that is left are taken away, until none is left.
+        while drawn:
+            ready = [name for name, others in drawn.items() if not others & set(drawn)]
+            self.assertNotEqual(ready, [], sorted(drawn))
+            drawn = {name: others for name, others in drawn.items() if name not in ready}
 
     def test_the_look_itself(self):
         for text in SENT_BACK:

@@ -5,8 +5,8 @@ import unittest
 from fractions import Fraction
 from math import isqrt
 
-from helps import great_fraction, looks_like_number, number, pair, small_fraction
-from hingedraw.errors import NoField, NoQuotient, RodError
+from helps import RefusalCase, great_fraction, looks_like_number, number, pair, small_fraction
+from hingedraw.errors import NoField, NoQuotient
 from hingedraw.roots import (
     one_field, root_less, root_minus, root_over, root_plus, root_sign, root_times,
 )
@@ -41,16 +41,11 @@ def sign(one, base):
         scale *= 10 ** 6
 
 
-class FieldCase(unittest.TestCase):
+class FieldCase(RefusalCase):
 
     def assert_number(self, told, value, base):
         self.assertTrue(looks_like_number(told), told)
         self.assertEqual(told, number(value[0], value[1], base))
-
-    def assert_refused(self, error, asked, *given):
-        with self.assertRaises(RodError) as caught:
-            asked(*given)
-        self.assertIs(type(caught.exception), error)
 
     def check(self, one, other, base):
         """One and other are (part, portion), how many times the root of base goes with part."""

@@ -4,8 +4,10 @@ import random
 import unittest
 from fractions import Fraction
 
-from helps import great_fraction, is_square, looks_like_number, number, pair, small_fraction
-from hingedraw.errors import NoRoot, RodError
+from helps import (
+    RefusalCase, anything, great_fraction, is_square, looks_like_number, nested, number, pair, small_fraction,
+)
+from hingedraw.errors import NoRoot
 from hingedraw.roots import is_number, made, root_of
 
 RIGHT = (
@@ -40,30 +42,6 @@ WRONG = (
     ({1: 1, 2: 1}, (2, 1)), ((1, 1), {2: 1, 1: 1}), {(1, 1): 1, (2, 1): 1}, (((1, 1), (2, 1)), ((1, 1), (2, 1))),
     ((1, ()), (2, 1)), (((), 1), (2, 1)), ((1, 1), ({}, 1)), ((1, 1), ([], 1)), ((1, 1), (2, [])),
 )
-
-
-def nested(deep, within):
-    for turn in range(deep):
-        within = ([within], (within,), {"in": within}, (within, within))[turn % 4]
-    return within
-
-
-def anything(chance, deep):
-    kind = chance.randrange(9 if deep else 4)
-    if kind == 0:
-        return chance.choice((-1, 0, 1, 2, 3, 4, 9, -4, 10 ** 60, -(10 ** 60)))
-    if kind == 1:
-        return chance.choice((True, False, None))
-    if kind == 2:
-        return chance.choice(("", "a", "01", "ab", "(1, 2)"))
-    if kind == 3:
-        return pair(small_fraction(chance))
-    many = chance.choice((0, 1, 2, 2, 2, 2, 3))
-    if kind == 4:
-        return [anything(chance, deep - 1) for turn in range(many)]
-    if kind == 5:
-        return {chance.choice((0, 1, "x", (1, 2), None, True)): anything(chance, deep - 1) for turn in range(many)}
-    return tuple(anything(chance, deep - 1) for turn in range(many))
 
 
 class IsNumberTest(unittest.TestCase):
@@ -153,7 +131,7 @@ class MadeTest(unittest.TestCase):
                 self.assertIs(is_number(told), True)
 
 
-class RootOfTest(unittest.TestCase):
+class RootOfTest(RefusalCase):
 
     def test_written_out(self):
         for fraction, told in (
@@ -184,9 +162,7 @@ class RootOfTest(unittest.TestCase):
 
     def test_below_nought_is_refused(self):
         for fraction in ((-1, 1), (-4, 1), (-2, 1), (-1, 4), (-1, 10 ** 59), (-(10 ** 59), 1), (-(10 ** 9000), 1)):
-            with self.assertRaises(RodError) as caught:
-                root_of(fraction)
-            self.assertIs(type(caught.exception), NoRoot)
+            self.assert_refused(NoRoot, root_of, fraction)
 
 
 if __name__ == "__main__":

@@ -6,12 +6,18 @@ import inspect
 import random
 import unittest
 
-from helps import great_fraction, looks_like_fraction, looks_like_number, number, pair
-from hingedraw.errors import NoField, NoQuotient, RodError
+from helps import (
+    RefusalCase, great_fraction, great_place, looks_like_fraction, looks_like_number, number, pair, plain, rooted,
+)
+from hingedraw.errors import NoField, NoQuotient, Stuck
 from hingedraw.fractions import minus, over, plus, ratio, root_in, times, whole_root
+from hingedraw.linkages import first_wrong, freedom, is_linkage
+from hingedraw.machines import is_machine, linkage_of, stand
+from hingedraw.points import circles_meet, like_at, line_meets, side_of, square_apart
 from hingedraw.roots import (
     is_number, made, one_field, root_less, root_minus, root_of, root_over, root_plus, root_sign, root_times,
 )
+from hingedraw.swings import balance, is_right, keep, many_swings, paper_of, swings
 
 INTERFACE = {
     "hingedraw.fractions": {
@@ -24,7 +30,38 @@ INTERFACE = {
         "root_less": "one other", "root_sign": "one",
     },
     "hingedraw.errors": {"Stuck": "step"},
+    "hingedraw.points": {
+        "square_apart": "one other", "like_at": "one other along left", "side_of": "one other third",
+        "circles_meet": "one square other other_square", "line_meets": "one other middle square",
+    },
+    "hingedraw.linkages": {"is_linkage": "thing", "first_wrong": "linkage place", "freedom": "linkage"},
+    "hingedraw.swings": {
+        "keep": "linkage place speeds", "many_swings": "linkage place", "swings": "linkage place",
+        "balance": "linkage place weights", "paper_of": "linkage place", "is_right": "linkage place paper",
+    },
+    "hingedraw.machines": {"is_machine": "thing", "stand": "machine drives", "linkage_of": "machine"},
 }
+
+LINKAGE = (4, (0, 1), ((0, 1, (1, 1)), (1, 2, (1, 1)), (2, 3, (1, 1)), (0, 3, (1, 1))))
+MACHINE = (
+    ("fix", (0, 1), (0, 1)), ("fix", (4, 1), (0, 1)), ("crank", 0, (1, 1)), ("pair", 2, 1, (9, 1), (9, 1), 0),
+    ("like", 2, 3, (1, 2), (1, 2)),
+)
+
+
+def with_part(thing, way, part):
+    """The tuple with another part at the end of the way, a list of places."""
+    if not way:
+        return part
+    return thing[:way[0]] + (with_part(thing[way[0]], way[1:], part),) + thing[way[0] + 1:]
+
+
+def ways_to_wholes(thing, way=()):
+    if type(thing) is int:
+        yield way
+    if type(thing) is tuple:
+        for at, part in enumerate(thing):
+            yield from ways_to_wholes(part, way + (at,))
 
 
 class InterfaceTest(unittest.TestCase):
@@ -48,16 +85,27 @@ class WholeNumbersTest(unittest.TestCase):
                     wrong[at][within] = truth
                     self.assertIs(is_number((tuple(wrong[0]), tuple(wrong[1]))), False)
 
+    def test_truths_are_none_in_linkages_and_machines(self):
+        for asked, right in ((is_linkage, LINKAGE), (is_machine, MACHINE)):
+            self.assertIs(asked(right), True)
+            for way in ways_to_wholes(right):
+                for truth in (True, False):
+                    self.assertIs(asked(with_part(right, way, truth)), False)
+
 
 class HandedInTest(unittest.TestCase):
 
     def test_what_is_handed_in_is_not_changed(self):
         for thing in (
-            [(1, 1), (2, 1)], ([1, 1], [2, 1]), {"part": (1, 1), "under": [2, 1]}, ((1, [1]), (2, {1: 1})), [[], {}, [[]]],
+            [(1, 1), (2, 1)], ([1, 1], [2, 1]), {"part": (1, 1), "under": [2, 1]}, ((1, [1]), (2, {1: 1})),
+            [[], {}, [[]]],
         ):
-            before = copy.deepcopy(thing)
-            is_number(thing)
-            self.assertEqual(thing, before)
+            for built in (thing, (3, thing, thing), (4, (), (thing,)), (thing, ("crank", thing, [1, 1])),
+                          [MACHINE[0], thing]):
+                before = copy.deepcopy(built)
+                for asked in (is_number, is_linkage, is_machine):
+                    asked(built)
+                    self.assertEqual(built, before)
 
     def test_what_is_handed_in_is_not_kept(self):
         thing = [(1, 1), (2, 1)]
@@ -78,6 +126,28 @@ class HandedInTest(unittest.TestCase):
             if asked is not one_field:
                 self.assertRaises(NoField, asked, one, strange)
             self.assertEqual(asked(one, other), first)
+
+    def test_the_same_answer_again_of_all_that_is_asked_of_places(self):
+        place = (plain(0, 0), plain(1, 0), plain(1, 1), plain(0, 1))
+        strange = (plain(0, 0), plain(1, 0), rooted((0, 1), (0, 0), 2), rooted((0, 1), (0, 0), 3))
+        questions = (
+            (swings, LINKAGE, place), (many_swings, LINKAGE, place), (paper_of, LINKAGE, place),
+            (first_wrong, LINKAGE, place),
+            (freedom, LINKAGE), (stand, MACHINE, ((1, 3),)), (linkage_of, MACHINE),
+            (line_meets, place[0], place[1], place[2], (2, 1)),
+            (circles_meet, place[0], (2, 1), place[2], (2, 1)), (side_of,) + place[:3], (square_apart,) + place[1:3],
+            (like_at,) + place[1:3] + ((1, 2), (1, 3)),
+        )
+        first = [question[0](*question[1:]) for question in questions]
+        self.assertRaises(NoField, first_wrong, LINKAGE, strange)
+        self.assertRaises(Stuck, stand, MACHINE[:2] + (("pair", 0, 1, (1, 1), (1, 1), 0),), ())
+        for question, told in reversed(list(zip(questions, first))):
+            again = question[0](*question[1:])
+            self.assertEqual(again, told)
+            if type(told) is list:
+                self.assertIsNot(again, told)
+                told.clear()
+                self.assertEqual(question[0](*question[1:]), again)
 
 
 class WhateverItsSizeTest(unittest.TestCase):
@@ -122,14 +192,46 @@ class WhateverItsSizeTest(unittest.TestCase):
             with self.assertRaises(NoQuotient):
                 root_over(one, ((0, 1), (0, 1)))
 
+    def test_points_that_were_told(self):
+        chance = random.Random(33)
+        one, other = plain(great_fraction(chance), 0), plain(0, great_fraction(chance))
+        square = square_apart(one, other)[0]
+        left, right = circles_meet(one, square, other, square)
+        for turn in range(4):
+            self.assertEqual((side_of(one, other, left), side_of(one, other, right)), (1, -1))
+            self.assertEqual(square_apart(one, left), square_apart(one, right))
+            self.assertEqual(square_apart(left, right)[1], (0, 1))
+            self.assertIsNone(first_wrong((2, (), ((0, 1, square_apart(left, right)[0]),)), (left, right)))
+            by = pair(abs(great_fraction(chance)))
+            left, right = like_at(one, left, by, (0, 1)), like_at(one, right, by, (0, 1))
+        back, there = line_meets(one, other, one, square)
+        self.assertEqual(there, other)
+        self.assertEqual(circles_meet(one, square, back, times((4, 1), square)), [other])
 
-class FirstRefusalTest(unittest.TestCase):
+    def test_stands_speeds_and_weights_that_were_told(self):
+        chance = random.Random(34)
+        drive = pair(great_fraction(chance))
+        points = stand(MACHINE, (drive,))
+        self.assertIsNone(first_wrong(linkage_of(MACHINE), tuple(points)))
+        for many, fixed in ((6, ()), (6, (0, 1)), (5, (0, 1, 2))):
+            joints = [(one, other) for one in range(many) for other in range(one + 1, many)]
+            linkage = (many, fixed, tuple((one, other, (1, 1)) for one, other in joints[:12]))
+            place = great_place(chance, many)
+            told = swings(linkage, place)
+            self.assertEqual(len(told), many_swings(linkage, place))
+            for speeds in told:
+                self.assertIs(keep(linkage, place, speeds), True)
+            paper = paper_of(linkage, place)
+            self.assertIs(is_right(linkage, place, paper), True)
+            self.assertEqual(paper[0], "bound")
+            self.assertIs(balance(linkage, place, paper[1]), True)
+
+
+class FirstRefusalTest(RefusalCase):
 
     def test_by_nought_goes_ahead_of_unlike_fields(self):
         for one in (((0, 1), (2, 1)), ((1, 2), (-3, 1)), ((1, 2), (0, 1))):
-            with self.assertRaises(RodError) as caught:
-                root_over(one, ((0, 1), (0, 1)))
-            self.assertIs(type(caught.exception), NoQuotient)
+            self.assert_refused(NoQuotient, root_over, one, ((0, 1), (0, 1)))
 
 
 if __name__ == "__main__":
