@@ -165,3 +165,57 @@ def some_place(chance, many, reach=4):
 
 def great_place(chance, many):
     return tuple(plain(great_fraction(chance), great_fraction(chance)) for turn in range(many))
+
+
+def rods_of(*lengths):
+    """The four rods of four Fractions."""
+    return tuple(pair(length) for length in lengths)
+
+
+def drive_end(length, drive):
+    """Where a crank about (0, 0) ends, as two Fractions, by a Fraction or None."""
+    if drive is None:
+        return (-Fraction(length), Fraction(0))
+    below = 1 + Fraction(drive) ** 2
+    return (length * (1 - Fraction(drive) ** 2) / below, length * 2 * Fraction(drive) / below)
+
+
+def root_number(part, square, turned=False):
+    """The root number of part and the root of a square, or part less it."""
+    square = Fraction(square)
+    if is_square(square.numerator) and is_square(square.denominator):
+        root = Fraction(isqrt(square.numerator), isqrt(square.denominator))
+        return number(part - root if turned else part + root)
+    return number(part, -1 if turned else 1, square)
+
+
+def looks_like_curve(thing):
+    if type(thing) is not dict:
+        return False
+    for key, fraction in thing.items():
+        if type(key) is not tuple or len(key) != 2 or not all(looks_whole(power) and power >= 0 for power in key):
+            return False
+        if not looks_like_fraction(fraction) or fraction[0] == 0:
+            return False
+    return True
+
+
+def looks_normal(curve):
+    tops = [fraction[0] for fraction in curve.values()]
+    wholes = all(fraction[1] == 1 for fraction in curve.values())
+    return looks_like_curve(curve) and len(curve) > 0 and wholes and gcd(*tops) == 1 and curve[max(curve)][0] > 0
+
+
+def curve(sums):
+    """The curve of a dict of numbers, noughts left out."""
+    return {key: pair(value) for key, value in sums.items() if value != 0}
+
+
+def some_curve(chance, most=3, kind=small_fraction):
+    keys = [(i, j) for i in range(most + 1) for j in range(most + 1 - i)]
+    return curve({key: kind(chance) for key in chance.sample(keys, chance.randint(0, len(keys)))})
+
+
+def side_at(told, x, y):
+    """What the side of a curve comes to, by Fractions."""
+    return sum((worth(fraction) * x ** i * y ** j for (i, j), fraction in told.items()), Fraction(0))

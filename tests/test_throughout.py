@@ -7,9 +7,16 @@ import random
 import unittest
 
 from helps import (
-    RefusalCase, great_fraction, great_place, looks_like_fraction, looks_like_number, number, pair, plain, rooted,
+    RefusalCase, great_fraction, great_place, looks_like_curve, looks_like_fraction, looks_like_number, number, pair,
+    plain, rooted, some_curve,
 )
-from hingedraw.errors import NoField, NoQuotient, Stuck
+from hingedraw.coupler import coupler_curve, pen_machine
+from hingedraw.curves import (
+    circle_about, curve_grown, curve_minus, curve_plus, curve_times, degree_of, line_through, normal, on_curve, slope,
+    top_part, value_at,
+)
+from hingedraw.errors import NoCurve, NoField, NoMeet, NoQuotient, Stuck
+from hingedraw.fourrods import can_stand, dead_stands, is_stand, many_pieces, one_piece, stands_at, turns
 from hingedraw.fractions import minus, over, plus, ratio, root_in, times, whole_root
 from hingedraw.linkages import first_wrong, freedom, is_linkage
 from hingedraw.machines import is_machine, linkage_of, stand
@@ -40,6 +47,18 @@ INTERFACE = {
         "balance": "linkage place weights", "paper_of": "linkage place", "is_right": "linkage place paper",
     },
     "hingedraw.machines": {"is_machine": "thing", "stand": "machine drives", "linkage_of": "machine"},
+    "hingedraw.fourrods": {
+        "can_stand": "rods", "is_stand": "rods stand", "stands_at": "rods drive", "turns": "rods word",
+        "dead_stands": "rods", "many_pieces": "rods", "one_piece": "rods one other",
+    },
+    "hingedraw.curves": {
+        "curve_plus": "one other", "curve_minus": "one other", "curve_times": "one other", "curve_grown": "curve by",
+        "normal": "curve", "degree_of": "curve", "top_part": "curve", "slope": "curve at", "value_at": "curve point",
+        "on_curve": "curve point", "line_through": "one other", "circle_about": "middle square",
+    },
+    "hingedraw.coupler": {
+        "pen_machine": "one other crank squares place side", "coupler_curve": "one other crank squares place",
+    },
 }
 
 LINKAGE = (4, (0, 1), ((0, 1, (1, 1)), (1, 2, (1, 1)), (2, 3, (1, 1)), (0, 3, (1, 1))))
@@ -47,6 +66,8 @@ MACHINE = (
     ("fix", (0, 1), (0, 1)), ("fix", (4, 1), (0, 1)), ("crank", 0, (1, 1)), ("pair", 2, 1, (9, 1), (9, 1), 0),
     ("like", 2, 3, (1, 2), (1, 2)),
 )
+RODS = ((2, 1), (1, 1), (4, 1), (4, 1))
+FOUR = (((0, 1), (0, 1)), ((4, 1), (0, 1)), (1, 1), ((9, 1), (9, 1)), ((1, 2), (1, 2)))
 
 
 def with_part(thing, way, part):
@@ -150,6 +171,34 @@ class HandedInTest(unittest.TestCase):
                 self.assertEqual(question[0](*question[1:]), again)
 
 
+    def test_the_same_answer_again_of_rods_and_curves(self):
+        one, other = some_curve(random.Random(35)), some_curve(random.Random(36))
+        point = rooted((1, 2), (0, 1), 3)
+        stands = stands_at(RODS, (2, 3)) + stands_at(RODS, (-2, 3))
+        questions = (
+            (can_stand, RODS), (is_stand, RODS, stands[0]), (stands_at, RODS, (2, 3)), (turns, RODS, "coupler"),
+            (dead_stands, RODS), (many_pieces, RODS), (one_piece, RODS, stands[0], stands[-1]),
+            (curve_plus, one, other), (curve_minus, one, other), (curve_times, one, other), (curve_grown, one, (2, 3)),
+            (normal, one), (degree_of, one), (top_part, one), (slope, one, 0), (slope, one, 1), (value_at, one, point),
+            (on_curve, one, point), (line_through, plain(0, 1), plain(2, 3)), (circle_about, plain(0, 1), (2, 3)),
+            (pen_machine,) + FOUR + (1,), (coupler_curve,) + FOUR,
+        )
+        before = copy.deepcopy(questions)
+        first = [question[0](*question[1:]) for question in questions]
+        self.assertRaises(NoCurve, normal, {})
+        self.assertRaises(NoMeet, stands_at, ((1, 1), (2, 1), (2, 1), (1, 1)), (0, 1))
+        self.assertRaises(NoMeet, line_through, plain(1, 1), plain(1, 1))
+        for question, told in reversed(list(zip(questions, first))):
+            again = question[0](*question[1:])
+            self.assertEqual(again, told)
+            self.assertEqual(type(again), type(told))
+            if type(told) in (list, dict):
+                self.assertIsNot(again, told)
+                told.clear()
+                self.assertEqual(question[0](*question[1:]), again)
+        self.assertEqual(questions, before)
+
+
 class WhateverItsSizeTest(unittest.TestCase):
 
     def test_fractions(self):
@@ -225,6 +274,42 @@ class WhateverItsSizeTest(unittest.TestCase):
             self.assertIs(is_right(linkage, place, paper), True)
             self.assertEqual(paper[0], "bound")
             self.assertIs(balance(linkage, place, paper[1]), True)
+
+
+    def test_rods_and_their_stands(self):
+        # Rods as great as sums that were told, far beyond sixty figures.
+        chance = random.Random(37)
+        grow = pair(abs(great_fraction(chance)))
+        for turn in range(4):
+            grow = times(grow, plus(grow, (1, 3)))
+        self.assertGreater(grow[1], 10 ** 500)
+        rods = tuple(times(rod, grow) for rod in RODS)
+        self.assertIs(can_stand(rods), True)
+        self.assertEqual(many_pieces(rods), 2)
+        self.assertEqual([turns(rods, word) for word in ("crank", "rocker", "coupler")], [False, False, True])
+        dead = dead_stands(rods)
+        self.assertEqual([told[0] for told in dead], ["stretched", "stretched", "folded", "folded"])
+        found = stands_at(rods, (2, 3)) + [told[1:] for told in dead]
+        for told in found:
+            self.assertIs(is_stand(rods, told), True)
+            self.assertIs(one_piece(rods, told, found[0]), told[0][1][0][0] > 0 or told[0][1][1][0] > 0)
+
+    def test_curves_that_were_told(self):
+        chance = random.Random(38)
+        keys = ((0, 0), (1, 0), (0, 1), (1, 1))
+        one, other = [{key: pair(great_fraction(chance)) for key in keys} for turn in range(2)]
+        first, point = one, plain(great_fraction(chance), great_fraction(chance))
+        for turn in range(3):
+            told = curve_plus(curve_times(one, other), first)
+            self.assertTrue(looks_like_curve(told))
+            self.assertEqual(curve_minus(told, first), curve_times(other, one))
+            self.assertEqual(normal(curve_grown(normal(told), (-7, 3))), normal(told))
+            value = root_plus(root_times(value_at(one, point), value_at(other, point)), value_at(first, point))
+            self.assertEqual(value_at(told, point), value)
+            self.assertEqual(value_at(curve_minus(told, {(0, 0): value[0]}), point), ((0, 1), (0, 1)))
+            self.assertIs(on_curve(curve_minus(told, {(0, 0): value[0]}), point), True)
+            one = told
+        self.assertGreater(max(fraction[1] for fraction in one.values()), 10 ** 500)
 
 
 class FirstRefusalTest(RefusalCase):
