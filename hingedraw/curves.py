@@ -36,9 +36,9 @@ def common_multiple(one, other):
     return one // common_divisor(one, other) * other
 
 
-def common_bottom(curve):
+def common_bottom(fractions):
     bottom = 1
-    for fraction in curve.values():
+    for fraction in fractions:
         bottom = common_multiple(bottom, fraction[1])
     return bottom
 
@@ -61,18 +61,15 @@ def product_of_tops(one, other):
 
 def curve_times(one, other):
     # Multiplied in whole numbers: so each sum is brought to lowest terms once, not at each step.
-    mine = common_bottom(one)
-    theirs = common_bottom(other)
+    mine = common_bottom(list(one.values()))
+    theirs = common_bottom(list(other.values()))
     told = {}
     for key, top in product_of_tops(tops_over(one, mine), tops_over(other, theirs)).items():
         told[key] = ratio(top, mine * theirs)
     return without_noughts(told)
 
 
-def normal(curve):
-    if len(curve) == 0:
-        raise NoCurve("what is nought throughout has no normal curve")
-    tops = tops_over(curve, common_bottom(curve))
+def normal_of_tops(tops):
     shared = 0
     for top in tops.values():
         shared = common_divisor(shared, top)
@@ -82,6 +79,12 @@ def normal(curve):
     for key, top in tops.items():
         told[key] = (top // shared, 1)
     return told
+
+
+def normal(curve):
+    if len(curve) == 0:
+        raise NoCurve("what is nought throughout has no normal curve")
+    return normal_of_tops(tops_over(curve, common_bottom(list(curve.values()))))
 
 
 def degree_of(curve):
@@ -147,7 +150,7 @@ def side_over(curve, point, base):
     # What the side comes to, as a surd and its bottom: nothing is brought to lowest terms on the way.
     xs = powers_over(point[0], [key[0] for key in curve], base)
     ys = powers_over(point[1], [key[1] for key in curve], base)
-    bottom = common_bottom(curve)
+    bottom = common_bottom(list(curve.values()))
     part = 0
     portion = 0
     for key, top in tops_over(curve, bottom).items():

@@ -219,3 +219,32 @@ def some_curve(chance, most=3, kind=small_fraction):
 def side_at(told, x, y):
     """What the side of a curve comes to, by Fractions."""
     return sum((worth(fraction) * x ** i * y ** j for (i, j), fraction in told.items()), Fraction(0))
+
+
+def turn_numbers(by):
+    """Two Fractions whose squares are 1 together, by any Fraction."""
+    return ((1 - by * by) / (1 + by * by), 2 * by / (1 + by * by))
+
+
+LEAD_WORDS = ("shift", "grow", "turn", "mirror", "invert")
+
+
+def some_lead(chance, word, kind=small_fraction):
+    x, y, third = kind(chance), kind(chance), kind(chance) or Fraction(1, 3)
+    if word == "shift":
+        return (word, pair(x), pair(y))
+    if word == "turn":
+        p, q = turn_numbers(third.limit_denominator(10 ** 29))
+        return (word, pair(x), pair(y), pair(p), pair(q))
+    if word == "mirror" and x == y == 0:
+        x = Fraction(1)
+    return (word, pair(x), pair(y), pair(third))
+
+
+def some_leads(chance, many=6, inverts=6, kind=small_fraction):
+    told = []
+    while len(told) < many:
+        word = chance.choice(LEAD_WORDS)
+        if word != "invert" or [lead[0] for lead in told].count("invert") < inverts:
+            told.append(some_lead(chance, word, kind))
+    return told

@@ -26,6 +26,9 @@ METHODS = "__init__ __eq__ __repr__ __str__ __len__".split()
 BANNED = """type typing typing_extensions enum Enum IntEnum StrEnum Flag IntFlag Generic Protocol ABC ABCMeta namedtuple
 NamedTuple TypedDict TYPE_CHECKING abstractmethod""".split()
 BANNED_WITHIN = "dataclass overload contextmanager".split()
+CALLED = """append clear copy count endswith extend find get index insert isalnum isalpha isdigit islower isspace isupper items
+join keys ljust lower lstrip partition pop remove replace reverse rfind rjust rpartition rsplit rstrip setdefault split
+splitlines startswith strip update upper values zfill bit_length __init__""".split()
 NOT_USED = """register mro elements open input version_info with_traceback add_note format format_map attrgetter
 breakpoint builtins compile copyright credits delattr dir eval exec exit gc getattr globals hasattr help id importlib
 license locals methodcaller os quit setattr super vars sys""".split()
@@ -62,6 +65,33 @@ def top_faults(tree):
     for name, line in seen:
         if names.count(name) > 1:
             yield line, f"L15 {name} is bound twice"
+
+
+def is_plain_value(node):
+    if isinstance(node, (ast.List, ast.Tuple)):
+        return all(is_plain_value(part) for part in node.elts)
+    if isinstance(node, ast.Dict):
+        return all(is_plain_value(part) for part in node.keys + node.values)
+    if isinstance(node, ast.UnaryOp):
+        return isinstance(node.op, ast.USub) and is_plain_value(node.operand)
+    return isinstance(node, ast.Constant)
+
+
+def value_faults(tree):
+    for node in tree.body:
+        if isinstance(node, ast.Assign) and not is_plain_value(node.value):
+            yield node.lineno, "L3 no plain value"
+        if isinstance(node, ast.Assign) and isinstance(node.value, (ast.List, ast.Dict)):
+            if any(isinstance(part, (ast.List, ast.Dict)) for part in ast.walk(node.value) if part is not node.value):
+                yield node.lineno, "L15 a list or dict within another one"
+
+
+def method_faults(tree):
+    own = [node.name for node in ast.walk(tree) if isinstance(node, ast.FunctionDef)]
+    for node in ast.walk(tree):
+        if isinstance(node, ast.Call) and isinstance(node.func, ast.Attribute):
+            if node.func.attr not in CALLED and node.func.attr not in own:
+                yield node.lineno, f"L25 the method {node.func.attr}"
 
 
 def statement_faults(node, docstring):
@@ -158,6 +188,8 @@ def faults(text):
     tree = ast.parse(text)
     found.extend(top_faults(tree))
     found.extend(shadow_faults(tree))
+    found.extend(value_faults(tree))
+    found.extend(method_faults(tree))
     for node in ast.walk(tree):
         line = getattr(node, "lineno", 0)
         if not isinstance(node, STATEMENTS + EXPRESSIONS):

@@ -20,11 +20,14 @@ SENT_BACK = (
     "from hingedraw.errors import NoRoot\n\n\ndef f(NoRoot):\n    return NoRoot\n",
     "from hingedraw.roots import made\n\n\ndef f(x):\n    made = x\n    return made\n",
     "def f(x):\n    return [a for a in x for b in a]\n", "def f(x):\n    return x._hidden\n", "@f\ndef g():\n    pass\n",
+    "def f(x):\n    return x.title()\n", "def f(x):\n    x.sort()\n", "x = 1 + 1\n", "x = (1, [y])\n", "x = [[1]]\n",
+    "x = {1: {}}\n",
 )
 
 TAKEN = (
     '"""Words."""\n\nfrom hingedraw.errors import NoRoot\n\nA = (0, 1)\n\n\ndef f(x):\n    # why\n    return x ** 2 is None\n',
     "class A(ValueError):\n\n    def __init__(self, x):\n        self.x = x\n",
+    "x = {1: (1, -1), 'a': ()}\n", "class A:\n\n    def f(self):\n        return self.g()\n\n    def g(self):\n        pass\n",
     "def f(x):\n    for k, one in enumerate(x):\n        if one is True:\n            return f'{k}'\n    return None\n",
 )
 

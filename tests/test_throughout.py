@@ -15,6 +15,7 @@ from hingedraw.curves import (
     circle_about, curve_grown, curve_minus, curve_plus, curve_times, degree_of, line_through, normal, on_curve, slope,
     top_part, value_at,
 )
+from hingedraw.desk import Desk
 from hingedraw.errors import NoCurve, NoField, NoMeet, NoQuotient, Stuck
 from hingedraw.fourrods import can_stand, dead_stands, is_stand, many_pieces, one_piece, stands_at, turns
 from hingedraw.fractions import minus, over, plus, ratio, root_in, times, whole_root
@@ -59,6 +60,20 @@ INTERFACE = {
     "hingedraw.coupler": {
         "pen_machine": "one other crank squares place side", "coupler_curve": "one other crank squares place",
     },
+    "hingedraw.leads": {
+        "led": "leads point", "led_back": "leads", "curve_led": "leads curve", "kind_of": "curve",
+    },
+    "hingedraw.cells": {
+        "inverting_linkage": "outer inner", "inverting_cell": "middle point outer inner",
+        "growing_linkage": "near far by", "growing_cell": "middle point near far by",
+        "round_point": "middle about way", "drawn_line": "middle about power", "draws": "line middle about outer inner",
+        "line_cell": "line middle",
+    },
+    "hingedraw.notes": {
+        "machine_text": "machine", "leads_text": "leads", "curve_text": "curve", "point_text": "point",
+        "machine_read": "text", "leads_read": "text", "curve_read": "text", "point_read": "text",
+    },
+    "hingedraw.desk": {"Desk": ""},
 }
 
 LINKAGE = (4, (0, 1), ((0, 1, (1, 1)), (1, 2, (1, 1)), (2, 3, (1, 1)), (0, 3, (1, 1))))
@@ -92,6 +107,7 @@ class InterfaceTest(unittest.TestCase):
             for name, words in names.items():
                 asked = getattr(importlib.import_module(module), name)
                 self.assertEqual(" ".join(inspect.signature(asked).parameters), words, (module, name))
+        self.assertEqual(" ".join(inspect.signature(Desk().say).parameters), "line")
 
 
 class WholeNumbersTest(unittest.TestCase):
